@@ -36,11 +36,13 @@ FRAMES = {"f_back", "f_code", "f_globals", "f_locals", "f_lasti", "f_lineno", "f
           "tb_lasti", "tb_lineno", "co_names", "co_code", "co_consts", "co_varnames"}
 NOWHERE = {"register", "mro", "elements", "open", "input", "law", "version_info", "with_traceback", "add_note"} | FRAMES
 NO_VARIABLE = set("""attrgetter breakpoint builtins compile copyright credits delattr dir eval exec exit gc getattr
-    globals hasattr help id importlib license locals methodcaller os quit setattr super type vars sys __name__""".split())
+    globals hasattr help id importlib license locals methodcaller os quit setattr super type vars sys
+    __name__""".split())
 NO_WORD = set("""type typing typing_extensions enum Enum IntEnum StrEnum Flag IntFlag Generic Protocol ABC ABCMeta
     namedtuple NamedTuple TypedDict TYPE_CHECKING abstractmethod""".split())
 NO_PART = ("dataclass", "overload", "contextmanager")
-NO_BEGINNING = ("_wall", "_pe_", "_dcw_", "_enum_", "_cm_", "_twin_re_", "_lay_", "_law_", "_stub_", "_sre", "_WallAttr")
+NO_BEGINNING = ("_wall", "_pe_", "_dcw_", "_enum_", "_cm_", "_twin_re_", "_lay_", "_law_", "_stub_", "_sre",
+                "_WallAttr")
 NO_STEM = {"_cold", "_tuplegetter", "_outside", "_record", "_written_out", "_member_names"}
 NO_ATTRIBUTE = set("""items keys values pop update append clear extend insert remove reverse setdefault sort args
     encode decode hex fromhex format format_map mro as_integer_ratio bit_count conjugate from_bytes is_integer
@@ -133,11 +135,13 @@ class Checker:
         for token in tokenize.generate_tokens(io.StringIO(path.read_text(encoding="ascii")).readline):
             if token.type == tokenize.COMMENT or token.start in docs:
                 continue
+            # Later Pythons tell the text of an f-string as a token of its own kind.
+            string = tokenize.tok_name[token.type] in ("STRING", "FSTRING_MIDDLE")
             for word in re.findall(r"\w+", token.string):
-                barred = word in NO_WORD and not (word == "type" and token.type == tokenize.STRING)
+                barred = word in NO_WORD and not (word == "type" and string)
                 if barred or any(part in word for part in NO_PART):
                     self.fault(path, token.start[0], "L17", f"the word {word}")
-            if token.type == tokenize.STRING:
+            if string:
                 self.check_string(path, token)
 
     def check_string(self, path, token):

@@ -15,31 +15,60 @@ PACKAGE = ROOT / "boundedlevels"
 LONG = "def long(k):\n" + "    k += 1\n" * 39 + "    return k\n"
 # (rule, text of a file that breaks it)
 BROKEN = (
-    ("L2", "import math\n"), ("L2", "from random import choice\n\n\ndef f():\n    return choice([1])\n"),
-    ("L2", "from math import sqrt\n\n\ndef f():\n    return sqrt(4)\n"), ("L2", "from boundedlevels.plain import *\n"),
-    ("L2", "from .plain import f\n\n\ndef g():\n    return f()\n"), ("L2", "def f():\n    from math import gcd\n    return gcd(2, 4)\n"),
+    ("L2", "import math\n"),
+    ("L2", "from random import choice\n\n\ndef f():\n    return choice([1])\n"),
+    ("L2", "from math import sqrt\n\n\ndef f():\n    return sqrt(4)\n"),
+    ("L2", "from boundedlevels.plain import *\n"),
+    ("L2", "from .plain import f\n\n\ndef g():\n    return f()\n"),
+    ("L2", "def f():\n    from math import gcd\n    return gcd(2, 4)\n"),
     ("L2", "LEVEL = 3\nfrom math import gcd\n\n\ndef f():\n    return gcd(2, 4)\n"),
-    ("L3", "LEVEL = len([3])\n"), ("L3", "for k in (1, 2):\n    pass\n"), ("L3", "LOW, HIGH = 1, 2\n"),
+    ("L3", "LEVEL = len([3])\n"),
+    ("L3", "for k in (1, 2):\n    pass\n"),
+    ("L3", "LOW, HIGH = 1, 2\n"),
     ("L4", "def f(k):\n    return k\n\n\n@f\ndef g():\n    return 1\n"),
-    ("L5", "class Box:\n    def __hash__(self):\n        return 1\n"), ("L6", "def f():\n    global k\n    k = 1\n"),
-    ("L6", "async def f():\n    return 1\n"), ("L6", "def f(d):\n    try:\n        return d[1]\n    except:\n        return 1\n"),
-    ("L7", "def f():\n    return 1.5\n"), ("L7", "def f(k):\n    return k / 2\n"), ("L8", "def f(k):\n    return hash(k)\n"),
-    ("L8", "def f(k):\n    print(k)\n"), ("L8", "def f():\n    return open('x')\n"), ("L10", LONG),
-    ("L10", "def f():\n    return 1  # " + "x" * 110 + "\n"), ("L10", "# a line\n" * 400), ("L14", "# \u00e9\n"),
-    ("L14", "def f():\n\treturn 1\n"), ("L12", "def f():\n    __k = 1\n    return __k\n"), ("L12", "class _Box:\n    pass\n"),
-    ("L12", "def f():\n    for _ in (1, 2):\n        return _\n"), ("L12", "def f(_lay_k):\n    return _lay_k\n"),
-    ("L12", "def _record2():\n    return 1\n"), ("L15", "K = 1\nK = 2\n"), ("L15", "TABLE = {1: [2]}\n"),
-    ("L15", "def f(min):\n    return min\n"), ("L15", "def f():\n    hash = 3\n    return hash\n"),
-    ("L15", "def f():\n    for id in (1, 2):\n        return id\n"), ("L15", "def next():\n    return 1\n"),
-    ("L15", "class Box:\n    pass\n\n\ndef f(Box):\n    return Box\n"), ("L15", "def f():\n    class Box:\n        pass\n    return Box()\n"),
+    ("L5", "class Box:\n    def __hash__(self):\n        return 1\n"),
+    ("L6", "def f():\n    global k\n    k = 1\n"),
+    ("L6", "async def f():\n    return 1\n"),
+    ("L6", "def f(d):\n    try:\n        return d[1]\n    except:\n        return 1\n"),
+    ("L7", "def f():\n    return 1.5\n"),
+    ("L7", "def f(k):\n    return k / 2\n"),
+    ("L8", "def f(k):\n    return hash(k)\n"),
+    ("L8", "def f(k):\n    print(k)\n"),
+    ("L8", "def f():\n    return open('x')\n"),
+    ("L10", LONG),
+    ("L10", "def f():\n    return 1  # " + "x" * 110 + "\n"),
+    ("L10", "# a line\n" * 400),
+    ("L14", "# \u00e9\n"),
+    ("L14", "def f():\n\treturn 1\n"),
+    ("L12", "def f():\n    __k = 1\n    return __k\n"),
+    ("L12", "class _Box:\n    pass\n"),
+    ("L12", "def f():\n    for _ in (1, 2):\n        return _\n"),
+    ("L12", "def f(_lay_k):\n    return _lay_k\n"),
+    ("L12", "def _record2():\n    return 1\n"),
+    ("L15", "K = 1\nK = 2\n"),
+    ("L15", "TABLE = {1: [2]}\n"),
+    ("L15", "def f(min):\n    return min\n"),
+    ("L15", "def f():\n    hash = 3\n    return hash\n"),
+    ("L15", "def f():\n    for id in (1, 2):\n        return id\n"),
+    ("L15", "def next():\n    return 1\n"),
+    ("L15", "class Box:\n    pass\n\n\ndef f(Box):\n    return Box\n"),
+    ("L15", "def f():\n    class Box:\n        pass\n    return Box()\n"),
     ("L16", "from boundedlevels.plain import gone\n\n\ndef f():\n    return gone()\n"),
     ("L16", "from boundedlevels.other import g\n\n\ndef f():\n    return g()\n"),
     ("L16", "from math import gcd\n\n\ndef f():\n    return 1\n"),
-    ("L17", "def f(k):\n    return k.open\n"), ("L17", "def register():\n    return 1\n"), ("L17", "def f(k):\n    return type(k)\n"),
-    ("L17", "WORD = 'enum'\n"), ("L17", "WORD = 'mydataclass'\n"), ("L20", "def f(a, b):\n    return a is b\n"),
-    ("L25", "def f(k):\n    return k.format(3)\n"), ("L25", "def f(k):\n    return k.popitem()\n"),
-    ("L26", "class Box:\n    def __init__(self):\n        self.args = 1\n"), ("L27", "WORD = 'a%s'\n"),
-    ("L27", "WORD = 'a\\x41'\n"), ("L27", "def f(n):\n    return 2 ** n\n"), ("L27", "WORD = '__odd__'\n"),
+    ("L17", "def f(k):\n    return k.open\n"),
+    ("L17", "def register():\n    return 1\n"),
+    ("L17", "def f(k):\n    return type(k)\n"),
+    ("L17", "WORD = 'enum'\n"),
+    ("L17", "WORD = 'mydataclass'\n"),
+    ("L20", "def f(a, b):\n    return a is b\n"),
+    ("L25", "def f(k):\n    return k.format(3)\n"),
+    ("L25", "def f(k):\n    return k.popitem()\n"),
+    ("L26", "class Box:\n    def __init__(self):\n        self.args = 1\n"),
+    ("L27", "WORD = 'a%s'\n"),
+    ("L27", "WORD = 'a\\x41'\n"),
+    ("L27", "def f(n):\n    return 2 ** n\n"),
+    ("L27", "WORD = '__odd__'\n"),
     ("L28", "class Box:\n    def __init__(self):\n        return None\n"),
 )
 SOUND = (
@@ -84,9 +113,10 @@ class Script(unittest.TestCase):
     def test_finds_what_breaks_a_rule(self):
         for rule, text in BROKEN:
             with self.subTest(rule=rule, text=text[:60]), tempfile.TemporaryDirectory() as folder:
+                # The other file imports from the broken one: what imports from it makes a ring.
+                other = "from boundedlevels.broken import f\n\n\ndef g():\n    return f()\n"
                 package = written(folder, {"broken.py": text, "plain.py": "def f():\n    return 1\n",
-                                           "other.py": "from boundedlevels.broken import f\n\n\ndef g():\n    return f()\n"
-                                           if "other import g" in text else ""})
+                                           "other.py": other if "other import g" in text else ""})
                 found = {fault.split(": ")[1] for fault in faults_of(package) if "broken.py" in fault}
                 self.assertIn(rule, found)
 

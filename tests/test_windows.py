@@ -28,7 +28,7 @@ def windows_for(rng, *rows):
 
 
 def fewest_by_the_document(row, low, high, starts):
-    """How many EVENTs are needed as the document reckons it, by trying these starts, the first and last ones among them."""
+    """How many EVENTs are needed as the document reckons it, by trying these starts of the window."""
     ends = {start: end(row, start) for start in starts}
     least, greatest = min(ends.values()), max(ends.values())
     if least < greatest:
