@@ -111,3 +111,43 @@ def led_by(triple, start):
     if cap is not None and level > cap:
         return cap
     return level
+
+
+def inside(stretch, start):
+    """Whether the start is in a STRETCH, None being none."""
+    if stretch is None:
+        return False
+    least, greatest = stretch
+    return (least is None or start >= least) and (greatest is None or start <= greatest)
+
+
+def stretch_fault(stretch, starts, holds):
+    """What is wrong with a STRETCH that is told for the starts for which something holds; None if nothing is.
+
+    The starts are to be such that each end of the right STRETCH and the start
+    beyond it are among them.
+    """
+    if stretch is not None:
+        if type(stretch) is not tuple or len(stretch) != 2:
+            return f"no pair: {stretch}"
+        if any(bound is not None and bound not in starts for bound in stretch):
+            return f"nothing turns at an end: {stretch}"
+    wrong = [start for start in starts if inside(stretch, start) is not holds(start)]
+    return f"told {stretch}, wrong for {wrong}" if wrong else None
+
+
+def crossing_starts(row, *levels):
+    """Starts, with their neighbours, that can come to an EVENT's number or one of these levels; and far ones."""
+    starts, ahead = {0, *levels}, 0
+    for word, number in row:
+        if word == "add":
+            ahead += number
+            starts.update(level - ahead for level in levels)
+        else:
+            starts.add(number - ahead)
+    return sorted({start + step for start in starts for step in range(-2, 3)} | set(FAR))
+
+
+def scaled(row, by):
+    """The ROW that does to start * by what row does to the start, by times over."""
+    return tuple((word, number * by) for word, number in row)

@@ -4,10 +4,10 @@ import doctest
 import pathlib
 import unittest
 
-from boundedlevels import errors, leasts, plain, ways
+from boundedlevels import errors, late, leasts, plain, rounds, units, ways, woven
 
 FOLDER = pathlib.Path(__file__).parent / "examples"
-MODULES = (errors, plain, ways, leasts)
+MODULES = (errors, plain, ways, leasts, late, units, rounds, woven)
 
 
 def interface():
@@ -52,7 +52,8 @@ class Examples(unittest.TestCase):
             for statement, line in pairs:
                 with self.subTest(section=path.stem, statement=statement):
                     self.assertEqual(told(statement, names), line)
-        self.assertEqual(counts, {"section3": 12, "section4": 9})
+        self.assertEqual(counts, {"section3": 12, "section4": 9, "section5": 14, "section6": 7, "section7": 8,
+                                  "section8": 8})
 
     def test_readme(self):
         failed, tried = doctest.testfile(str(FOLDER.parent.parent / "README.md"), module_relative=False)

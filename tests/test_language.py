@@ -93,7 +93,8 @@ class Package(unittest.TestCase):
 
     def test_is_there(self):
         names = {path.name for path in PACKAGE.glob("*.py")}
-        self.assertTrue({"__init__.py", "errors.py", "plain.py", "ways.py", "leasts.py"} <= names, names)
+        self.assertTrue({"__init__.py", "errors.py", "plain.py", "ways.py", "leasts.py", "late.py", "units.py",
+                         "rounds.py", "woven.py"} <= names, names)
 
     def test_python_has_no_warning(self):
         for path in PACKAGE.glob("*.py"):
