@@ -13,6 +13,8 @@ import re
 import sys
 import tokenize
 
+from uses import compares, use_faults
+
 BUILTINS = {name for name in dir(builtins) if not name.startswith("_")}
 ALLOWED_BUILTINS = set("""len range enumerate zip min max sum abs sorted reversed int str bool bytes list tuple dict
     set frozenset isinstance ord repr any all divmod iter next map Exception ValueError TypeError KeyError IndexError
@@ -76,8 +78,11 @@ class Checker:
                 self.trees[self.module_of(path)] = (path, ast.parse(path.read_text(encoding="ascii")))
         self.own = {node.name for _, tree in self.trees.values() for node in ast.walk(tree)
                     if isinstance(node, (ast.FunctionDef, ast.ClassDef))}
+        with_eq = compares([tree for _, tree in self.trees.values()])
         for path, tree in self.trees.values():
             self.check_tree(path, tree)
+            for line, rule, what in use_faults(tree, with_eq):
+                self.fault(path, line, rule, what)
         self.check_rings()
         return self.faults
 

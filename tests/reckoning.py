@@ -130,6 +130,8 @@ def stretch_fault(stretch, starts, holds):
     if stretch is not None:
         if type(stretch) is not tuple or len(stretch) != 2:
             return f"no pair: {stretch}"
+        if None not in stretch and stretch[0] > stretch[1]:
+            return f"the first above the second: {stretch}"
         if any(bound is not None and bound not in starts for bound in stretch):
             return f"nothing turns at an end: {stretch}"
     wrong = [start for start in starts if inside(stretch, start) is not holds(start)]

@@ -71,11 +71,39 @@ BROKEN = (
     ("L27", "WORD = '__odd__'\n"),
     ("L28", "class Box:\n    def __init__(self):\n        return None\n"),
 )
+EQ = "class Box:\n    def __eq__(self, other):\n        return isinstance(other, Box)\n\n\n"
+BROKEN += (
+    ("L5", "def f(k):\n    return (k + k)(3)\n"),
+    ("L5", "def f(k):\n    return k(3)(4)\n"),
+    ("L7", "def f(k):\n    return (x for x in k)\n"),
+    ("L7", "def f(k):\n    return set(x for x in k) == {1}\n"),
+    ("L7", EQ + "def f(k):\n    return any(x for x in k)\n"),
+    ("L22", "def f(k):\n    return int(k, base=3)\n"),
+    ("L22", "def f(k):\n    return sorted(k, reversed=True)\n"),
+    ("L22", "def f(k):\n    best = max\n    return best(k)\n"),
+    ("L22", "def f(k):\n    return k(min)\n"),
+    ("L22", "def f(k):\n    return [len, 1]\n"),
+    ("L23", "def f(k):\n    return zip(k, k)\n"),
+    ("L23", "def f(k):\n    return reversed(k)\n"),
+    ("L23", "def f(k):\n    return [range(3)]\n"),
+    ("L23", "def f(k):\n    return k.items() == 3\n"),
+    ("L23", "def f(k):\n    return list(reversed(k.items()))\n"),
+    ("L24", "def f(k):\n    return set(k)\n"),
+    ("L24", "def f(k):\n    return [x for x in {1, k}]\n"),
+    ("L24", "def f(k):\n    for x in set(k):\n        return x\n"),
+    ("L24", "def f(k):\n    return list({x for x in k})\n"),
+    ("L25", EQ + "def f(k):\n    k.sort()\n    return k\n"),
+)
 SOUND = (
     '"""A file."""\n\nfrom math import gcd\n\nWORDS = ("add", "type")\n\n\nclass Box:\n    """A type of box."""\n\n'
     '    def __init__(self, size):\n        self._size = size\n\n    @property\n    def size(self):\n'
     '        return self._size\n\n\ndef shared(one, other):\n    # An enum would do, too.\n    for _ in range(3):\n'
     '        one = gcd(one, other)\n    return one if one is not None else Box(one).size\n'
+    '\n\ndef asked(rows):\n    seen = set()\n    for place, row in enumerate(rows):\n        seen.add(row)\n'
+    '    least = min([len(row) for row in rows], default=None)\n    spots = range(least)\n'
+    '    table = {place: row for place, row in zip(spots, reversed(list(rows)))}\n'
+    '    if isinstance(least, int) and len(set(rows)) in {1, 2} and least in range(3):\n'
+    '        return sorted(set(rows), key=len)\n    return sorted([row for row in table.values() if row in seen])\n'
 )
 
 

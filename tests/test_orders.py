@@ -71,7 +71,9 @@ class InOrder(unittest.TestCase):
             for order in (wrong, list(wrong)):
                 with self.subTest(order=order), self.assertRaises(Unlike):
                     in_order(row, order)
-        for row, order in (((), (0,)), ((("add", 1),), ()), ((("add", 1),), (1,)), ((("add", 1),), (False,))):
+        one = (("add", 1),)
+        for row, order in (((), (0,)), (one, ()), (one, (1,)), (one, (False,)), (one, "0"), (one, 0), (one, None),
+                           ((), ""), ((), None), ((), 0), ((), ((),))):
             with self.subTest(order=order), self.assertRaises(Unlike):
                 in_order(row, order)
 
