@@ -40,6 +40,19 @@ def highest_path(net, start):
     return tuple(names)
 
 
+def ends_of(net, start):
+    """A dict from each level in the last state to the number of the paths that come to it from this start."""
+    counts = {state: {} for state in net}
+    counts[first_state(net)][start] = 1
+    for state, steps in net.items():
+        here = list(counts[state].items())
+        for _, way, behind in steps:
+            for level, many in here:
+                end = way(level)
+                counts[behind][end] = counts[behind].get(end, 0) + many
+    return counts[list(net)[-1]]
+
+
 def paths_to(net, last):
     """For each state the number of the paths from there to the last one."""
     many = {}

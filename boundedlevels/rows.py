@@ -22,6 +22,12 @@ def check_place(row, place):
         raise NoPlace(place)
 
 
+def check_moment(row, moment):
+    """Raises NoPlace if the number is no moment of the ROW."""
+    if not 0 <= moment <= len(row):
+        raise NoPlace(moment)
+
+
 def mirrored(row):
     """The ROW that leads -start to -end where this one leads the start to the end."""
     return tuple([(MIRRORED_WORDS[word], -number) for word, number in row])

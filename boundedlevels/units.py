@@ -6,6 +6,7 @@ stretch: floors take them away from below, caps from above.
 
 from boundedlevels.plain import level_behind
 from boundedlevels.rows import check_place
+from boundedlevels.stretches import meeting
 from boundedlevels.ways import Way, event_way, held, levels_of, starts_between
 
 
@@ -93,13 +94,7 @@ def ways_to_moments(row):
 def kept_starts(row, low, high):
     """The STRETCH of the starts from which the level is between two BOUNDs, not crossed, at all moments; or None."""
     stretches = [starts_between(way, low, high) for way in ways_to_moments(row)]
-    if None in stretches:
-        return None
-    least = max([first for first, _ in stretches if first is not None], default=None)
-    greatest = min([last for _, last in stretches if last is not None], default=None)
-    if least is not None and greatest is not None and least > greatest:
-        return None
-    return (least, greatest)
+    return None if None in stretches else meeting(stretches)
 
 
 def top_start(row, level):
