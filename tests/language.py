@@ -13,6 +13,7 @@ import re
 import sys
 import tokenize
 
+from classes import class_faults
 from uses import compares, use_faults
 
 BUILTINS = {name for name in dir(builtins) if not name.startswith("_")}
@@ -83,6 +84,8 @@ class Checker:
             self.check_tree(path, tree)
             for line, rule, what in use_faults(tree, with_eq):
                 self.fault(path, line, rule, what)
+        for path, line, rule, what in class_faults(list(self.trees.values())):
+            self.fault(path, line, rule, what)
         self.check_rings()
         return self.faults
 

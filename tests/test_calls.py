@@ -1,114 +1,17 @@
 """What holds of every function: names and places of arguments, lists for tuples, and that nothing is changed."""
 
-import copy
 import inspect
 import random
 import unittest
 
-from boundedlevels import late, leasts, plain, rounds, units, ways, woven
-from boundedlevels.errors import Crossed, Gainsaid, NoPlace, NoShift, NoStarts, Unlike
+from boundedlevels import flows, heaps, late, leasts, needs, plain, readings, rounds, texts, units, ways, woven
+from boundedlevels.desk import answers
+from boundedlevels.errors import BadLine, BadText, Crossed, Gainsaid, NoPlace, NoShift, NoStarts, Unlike
 from boundedlevels.ways import Way
+from interface import (
+    CLASSES, GUESS, INTERFACE, KINDS, LIMITS, OTHER, ROW, STREAMS, arguments_for, calls_of, interface, plainly,
+)
 from reckoning import HUGE, listed, random_row
-
-INTERFACE = {
-    plain: "is_event(thing), is_row(thing), end_of(row, start)",
-    ways: "levels_of(row, start), way_of(row), starts_for(way, end), starts_between(way, low, high), "
-          "nowhere_above(one, other), higher_start(one, other), greatest_of(ways), least_of(ways)",
-    leasts: "alike(row, other), parting_start(row, other), is_parting(row, other, thing), equal_starts(row, other), "
-            "least_rows(way), least_row(way), fewest_events(row), alike_within(row, other, low, high), "
-            "parting_within(row, other, low, high), least_within(row, low, high), fewest_within(row, low, high)",
-    late: "without(row, place), doubled(row, place, later=0), moved(row, place, goal), lost_matters(row, place), "
-          "doubled_matters(row, place, later=0), moved_alike(row, place, goal), forgotten(row, place, start=None), "
-          "needless(row), thinned(row), in_order(row, order), is_late(thing, many, most), how_many_late(many, most), "
-          "late_ways(row, most), late_orders(row, most, start), held_end(adds, floor, cap, start), "
-          "held_orders(adds, most), with_lost(row, start, most), lost_to_rise(row, start, goal), "
-          "lost_to_sink(row, start, goal), lost_for(row, start, end, most), surely_there(row, start, end, most)",
-    units: "lifted(row, start), cut(row, start), fate(row, unit), living(row), died_at(row, place), lifted_line(row), "
-           "cut_line(row), top_start(row, level), bottom_start(row, level), safe_starts(row, low, high), "
-           "reaches(row, start, level), falls_to(row, start, level), least_reaching(row, level), "
-           "greatest_falling(row, level)",
-    rounds: "stays(way), settles(way, start), rounds_up_to(way, start, level), rounds_down_to(way, start, level), "
-            "forgets_after(way), meet_after(way, one, other), highest(row, start, times), lowest(row, start, times), "
-            "rounds_within(row, start, low, high), long_run(row, start)",
-    woven: "is_weaving(streams, thing), woven_row(streams, weaving), highest_woven(streams), lowest_woven(streams), "
-           "highest_weaving(streams, start), lowest_weaving(streams, start), woven_parting(streams), "
-           "is_woven_parting(streams, thing), ends_woven(streams, start), weaving_to(streams, start, end), "
-           "many_quiet(streams, start), quiet_weaving(streams, start)",
-}
-METHODS = {
-    "__init__": "(self, shift, floor=None, cap=None)", "__call__": "(self, start)", "__rshift__": "(self, other)",
-    "__mul__": "(self, times)", "__eq__": "(self, other)",
-}
-
-ROW = (("add", -5), ("floor", 0), ("add", 3), ("cap", 6))
-OTHER = (("cap", 8), ("floor", 5), ("add", -1))
-STREAMS = ((("add", 5), ("cap", 6)), (("floor", 0), ("add", -4)))
-SHARED = {
-    "row": ROW, "other": OTHER, "start": 2, "low": -3, "high": 9, "end": 4, "place": 1, "later": 2, "goal": 3,
-    "order": (2, 0, 3, 1), "many": 3, "most": 2, "adds": (4, -3, 2, -6), "floor": 0, "cap": 10, "unit": 4, "level": 3,
-    "times": 5, "streams": STREAMS, "weaving": (1, 0, 0, 1), "ways": (Way(1, 0, 5), Way(None, 7, 7), Way(1, 2)),
-}
-THINGS = {
-    "is_event": ("cap", 3), "is_row": ROW, "is_parting": 8, "is_late": (1, 0, 2), "is_weaving": (0, 1, 1, 0),
-    "is_woven_parting": (4, (0, 0, 1, 1), (1, 1, 0, 0)),
-}
-# Those that tell a number stand in none of these.
-KINDS = {
-    bool: "is_event is_row is_parting alike alike_within nowhere_above is_late is_weaving is_woven_parting",
-    list: "levels_of equal_starts least_rows needless lost_for long_run ends_woven",
-    tuple: "starts_for starts_between least_row least_within without doubled moved lost_matters doubled_matters "
-           "moved_alike thinned in_order late_ways late_orders held_orders with_lost surely_there living died_at "
-           "lifted_line cut_line safe_starts stays settles woven_row highest_weaving lowest_weaving woven_parting "
-           "weaving_to quiet_weaving",
-    Way: "way_of greatest_of least_of highest_woven lowest_woven",
-}
-# What the others take does not fit these.
-OWN = {
-    "nowhere_above": {"one": Way(3, 0, 5), "other": Way(2, 1, 9)},
-    "higher_start": {"one": Way(3, 0, 5), "other": Way(2, 1, 9)},
-    "meet_after": {"one": 5, "other": 9},
-    "doubled_matters": {"place": 0},
-    "forgotten": {"place": 0, "start": -9},
-    "least_reaching": {"level": 5},
-    "rounds_within": {"start": 7, "low": 0},
-    "lost_for": {"end": 3},
-    "surely_there": {"end": 3},
-    "weaving_to": {"start": 4, "end": 5},
-    "quiet_weaving": {"start": 4},
-}
-
-
-def calls_of(text):
-    """(name, parameters) of each function in a line of the interface."""
-    return [call.rstrip(")").split("(") for call in text.split("), ")]
-
-
-def interface():
-    """(function, names of its parameters) for all that the interface lists."""
-    calls = []
-    for module, text in INTERFACE.items():
-        for name, parameters in calls_of(text):
-            calls.append((getattr(module, name), [part.split("=")[0] for part in parameters.split(", ")]))
-    return calls
-
-
-def arguments_for(function, names):
-    """A dict of arguments for the function, new each time."""
-    values = {name: copy.deepcopy(SHARED[name]) for name in names if name in SHARED}
-    if "way" in names:
-        values["way"] = Way(-2, 3, 6)
-    if "thing" in names:
-        values["thing"] = THINGS[function.__name__]
-    return {**values, **OWN.get(function.__name__, {})}
-
-
-def plainly(value):
-    """A value in which Ways are told by their texts, so that types are compared, too."""
-    if isinstance(value, Way):
-        return ("way", value.shift, value.floor, value.cap)
-    if isinstance(value, (list, tuple)):
-        return type(value)(plainly(part) for part in value)
-    return (type(value).__name__, value)
 
 
 def has_list(told):
@@ -126,14 +29,17 @@ class Interface(unittest.TestCase):
                     self.assertEqual(str(inspect.signature(function)), f"({parameters})")
                     self.assertEqual((function.__module__, function.__name__), (module.__name__, name))
 
-    def test_way_has_its_methods_itself(self):
-        self.assertEqual(Way.__module__, "boundedlevels.ways")
-        for name, signature in METHODS.items():
-            with self.subTest(name=name):
-                self.assertEqual(str(inspect.signature(vars(Way)[name])), signature)
-        for name in ("shift", "floor", "cap", "text"):
-            with self.subTest(name=name):
-                self.assertIsInstance(vars(Way)[name], property)
+    def test_classes_have_their_methods_themselves(self):
+        for kind, (module, methods, properties) in CLASSES.items():
+            self.assertEqual((kind.__module__, kind.__bases__), (module.__name__, (object,)))
+            for name, parameters in calls_of(methods):
+                with self.subTest(kind=kind.__name__, name=name):
+                    expected = f"(self, {parameters})" if parameters else "(self)"
+                    self.assertEqual(str(inspect.signature(vars(kind)[name])), expected)
+            for name in properties.split():
+                with self.subTest(kind=kind.__name__, name=name):
+                    self.assertIsInstance(vars(kind)[name], property)
+                    self.assertIsNone(vars(kind)[name].fset)
 
 
 class Calls(unittest.TestCase):
@@ -176,6 +82,34 @@ class Calls(unittest.TestCase):
                 calls += [(function, streams, start) for function in
                           (woven.highest_weaving, woven.lowest_weaving, woven.quiet_weaving)]
                 calls += [(woven.woven_parting, streams), (late.thinned, row), (late.late_ways, row, 2)]
+                for function, *arguments in calls:
+                    told = plainly(function(*arguments))
+                    self.assertEqual(plainly(function(*listed(arguments))), told, (function.__name__, arguments))
+                    self.assertEqual(plainly(function(*arguments)), told, (function.__name__, arguments))
+
+    def test_lists_for_tuples_where_it_is_open_which_of_many_is_told(self):
+        rng = random.Random("open, too")
+
+        def numbers(many, reach):
+            return tuple(rng.randint(-reach, reach) for _ in range(many))
+
+        for reach in (1, 9, HUGE):
+            for _ in range(15):
+                row, start = random_row(rng, rng.randint(0, 6), reach), rng.randint(-reach, reach)
+                steps = tuple(numbers(2, reach) for _ in range(rng.randint(0, 5)))
+                deeds = tuple(random_row(rng, rng.randint(0, 3), reach) for _ in range(rng.randint(0, 4)))
+                limits = tuple(tuple(sorted(numbers(2, reach))) for _ in range(rng.randint(1, 4)))
+                levels = tuple(rng.randint(low, high) for low, high in limits)
+                amounts, others = numbers(3, reach), numbers(2, reach)
+                guess = tuple((word, *sorted(numbers(2, reach))) for word, _ in row)
+                calls = [(function, row) for function in (heaps.highest_order, heaps.lowest_order)]
+                calls += [(function, steps) for function in (heaps.highest_step_order, heaps.lowest_step_order)]
+                calls += [(function, deeds, start) for function in (heaps.highest_deed_order, heaps.lowest_deed_order)]
+                calls += [(flows.flow_parting, limits, amounts, others),
+                          (flows.flow_start, limits, amounts, flows.flow(limits, levels, amounts)),
+                          (readings.going, guess, (None, start), ((len(row), reach),)),
+                          (readings.going, guess, (None, None), ()),
+                          (needs.cheapest_amounts, row, tuple(map(abs, numbers(len(row) + 1, 2))), start, reach)]
                 for function, *arguments in calls:
                     told = plainly(function(*arguments))
                     self.assertEqual(plainly(function(*listed(arguments))), told, (function.__name__, arguments))
@@ -226,6 +160,12 @@ class Calls(unittest.TestCase):
             lambda: late.lost_for(ROW, 2, 3, 2), lambda: late.lost_for(ROW, 2, 99, 2),
             lambda: late.lost_for((), 2, 2, 0), lambda: rounds.long_run(ROW, 2), lambda: rounds.long_run((), 2),
             lambda: woven.ends_woven(STREAMS, 4), lambda: woven.ends_woven(((),), 4),
+            lambda: heaps.ends_heap(ROW, 2), lambda: heaps.ends_heap((), 2),
+            lambda: flows.flow_moments(LIMITS, (1, 2, 0), (4, -3)), lambda: flows.flow_moments(LIMITS, (1, 2, 0), ()),
+            lambda: readings.levels_by(GUESS, (0, 5), ()), lambda: readings.levels_by((), (0, 5), ()),
+            lambda: readings.numbers_by(GUESS, (0, 5), ()), lambda: readings.numbers_by((), (0, 5), ()),
+            lambda: texts.shown(ROW, 2), lambda: texts.shown((), 2), lambda: answers("names\nopen a 5"),
+            lambda: answers("names"),
         )
         for call in calls:
             first = call()
@@ -272,6 +212,11 @@ class Calls(unittest.TestCase):
             (NoPlace, late.moved, row, 0, -1), (NoPlace, late.doubled, row, 3, 1), (NoPlace, late.forgotten, row, 9),
             (NoPlace, units.died_at, row, -1), (Unlike, late.in_order, row, order),
             (Crossed, late.held_end, adds, 1, 0, 5), (Gainsaid, late.surely_there, row, 2, 99, 2),
+            (NoPlace, needs.adds_between, row, 5, 0, None, 9), (NoPlace, needs.floors_between, row, -1, 0, None, 9),
+            (NoPlace, needs.caps_between, row, HUGE, 0, None, 9), (Unlike, needs.with_adds, row, adds),
+            (Unlike, needs.price_of, adds, order[:1]), (Unlike, needs.cheapest, row, adds, 0, 9),
+            (Unlike, needs.cheapest_amounts, row, adds, 0, 9), (Gainsaid, readings.Finder, 0, 3, 2, 6),
+            (BadText, texts.row_in, "+5,"), (BadText, texts.way_in, "1 2"), (BadLine, answers, "names\n"),
         )
         for error, function, *arguments in wrongs:
             with self.assertRaises(error):

@@ -4,10 +4,13 @@ import doctest
 import pathlib
 import unittest
 
-from boundedlevels import errors, late, leasts, plain, rounds, units, ways, woven
+from boundedlevels import (
+    account, board, desk, errors, flows, heaps, late, leasts, needs, plain, readings, rounds, texts, units, ways, woven,
+)
 
 FOLDER = pathlib.Path(__file__).parent / "examples"
-MODULES = (errors, plain, ways, leasts, late, units, rounds, woven)
+MODULES = (errors, plain, ways, leasts, late, units, rounds, woven, heaps, flows, readings, needs, account, texts,
+           board, desk)
 
 
 def interface():
@@ -53,7 +56,8 @@ class Examples(unittest.TestCase):
                 with self.subTest(section=path.stem, statement=statement):
                     self.assertEqual(told(statement, names), line)
         self.assertEqual(counts, {"section3": 12, "section4": 9, "section5": 14, "section6": 7, "section7": 8,
-                                  "section8": 8})
+                                  "section8": 8, "section9": 9, "section10": 8, "section11": 9, "section12": 7,
+                                  "section13": 8, "section14": 7, "section15": 12, "section16": 6})
 
     def test_readme(self):
         failed, tried = doctest.testfile(str(FOLDER.parent.parent / "README.md"), module_relative=False)

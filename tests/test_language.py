@@ -94,6 +94,47 @@ BROKEN += (
     ("L24", "def f(k):\n    return list({x for x in k})\n"),
     ("L25", EQ + "def f(k):\n    k.sort()\n    return k\n"),
 )
+BOX = "class Box:\n    def __init__(self, n):\n        self.n = n\n\n"
+NOT_ITERATED = "    def __iter__(self):\n        raise TypeError('no')\n\n"
+BROKEN += (
+    ("L4", "def f(k=[]):\n    return k\n"),
+    ("L4", "def f(k=len('ab')):\n    return k\n"),
+    ("L5", BOX + "    def __getitem__(self, at):\n        return at\n"),
+    ("L5", BOX + "    def __getitem__(self, at):\n        return at\n\n    def __iter__(self):\n        return 1\n"),
+    ("L5", BOX + NOT_ITERATED + "    def __getitem__(self, at):\n        return at\n\n    def keys(self):\n"
+           "        return 1\n"),
+    ("L5", BOX + "    def __eq__(self, other, by=1):\n        return isinstance(other, Box)\n"),
+    ("L5", BOX + "    def __contains__(self):\n        return True\n"),
+    ("L5", BOX + "    @property\n    def many(self, by):\n        return by\n"),
+    ("L5", BOX + "    @property\n    def many(self):\n        self.n = 1\n        return self.n\n"),
+    ("L5", BOX + "    @property\n    def many(self):\n        self.n.append(1)\n        return self.n\n"),
+    ("L5", BOX + "    def __len__(self):\n        self.n[0] = 1\n        return len(self.n)\n"),
+    ("L5", BOX + "    def __rshift__(self, other):\n        return other(3)\n"),
+    ("L5", "def g(row):\n    row.append(1)\n    return row\n\n\n" + BOX
+           + "    def __eq__(self, other):\n        return g(self.n) == other\n"),
+    ("L5", "def g(way):\n    return way(1)\n\n\n" + BOX + "    @property\n    def many(self):\n"
+           "        return g(self.n)\n"),
+    ("L5", BOX + NOT_ITERATED + "    def __getitem__(self, at):\n        return list(reversed(self.n))\n"),
+    ("L5", BOX + "    @property\n    def many(self):\n        return self.n\n\n\nclass Bag:\n"
+           "    def many(self):\n        return 1\n"),
+    ("L15", "TABLE = {1: 2}\n\n\ndef f(k):\n    TABLE[k] = 1\n"),
+    ("L15", "TABLE = [1]\n\n\ndef f(k):\n    TABLE.append(k)\n"),
+    ("L18", BOX + "    def n(self):\n        return 1\n"),
+    ("L18", BOX + "    def one(self):\n        return 1\n\n    def one(self):\n        return 2\n"),
+    ("L18", BOX + "    def one(self):\n        return self._many\n"),
+    ("L19", "def f(e):\n    raise e\n"),
+    ("L19", "def f(e):\n    raise e.wrong()\n"),
+    ("L19", "def f(d):\n    try:\n        return d[1]\n    except Exception:\n        return 1\n"),
+    ("L19", "def f(d):\n    try:\n        return d[1]\n    except (KeyError, TypeError):\n        return 1\n"),
+    ("L22", "def g(a, b=1):\n    return a\n\n\ndef f():\n    return g()\n"),
+    ("L22", "def g(a, b=1):\n    return a\n\n\ndef f():\n    return g(1, 2, 3)\n"),
+    ("L22", "def g(a, b=1):\n    return a\n\n\ndef f():\n    return g(1, c=3)\n"),
+    ("L22", BOX + "\ndef f():\n    return Box()\n"),
+    ("L23", "def f(rows):\n    for row in rows:\n        rows.append(row)\n"),
+    ("L23", "def f(rows):\n    for at, row in enumerate(rows):\n        rows[at] = row\n"),
+    ("L23", "def f(d):\n    for k, v in d.items():\n        del d[k]\n"),
+    ("L28", BOX + "    def __len__(self):\n        return self.n\n"),
+)
 SOUND = (
     '"""A file."""\n\nfrom math import gcd\n\nWORDS = ("add", "type")\n\n\nclass Box:\n    """A type of box."""\n\n'
     '    def __init__(self, size):\n        self._size = size\n\n    @property\n    def size(self):\n'
@@ -104,6 +145,14 @@ SOUND = (
     '    table = {place: row for place, row in zip(spots, reversed(list(rows)))}\n'
     '    if isinstance(least, int) and len(set(rows)) in {1, 2} and least in range(3):\n'
     '        return sorted(set(rows), key=len)\n    return sorted([row for row in table.values() if row in seen])\n'
+    '\n\nclass Shelf:\n    def __init__(self, rows, by=1):\n        self._rows = list(rows)\n\n'
+    '    @property\n    def first(self):\n        told = [row for row in self._rows]\n        told.append(1)\n'
+    '        return told[0]\n\n    def put(self, row):\n        self._rows.append(row)\n\n'
+    '    def __len__(self):\n        return len(self._rows)\n\n    def __getitem__(self, at):\n'
+    '        return self._rows[at]\n\n    def __iter__(self):\n        raise TypeError("no")\n\n\n'
+    'class Bad(ValueError):\n    pass\n\n\ndef filled(rows, by=2):\n    shelf = Shelf(rows, by=by)\n'
+    '    for row in list(rows):\n        rows.append(row)\n    try:\n        return asked(rows)\n'
+    '    except (Bad, KeyError):\n        raise Bad("no") from None\n'
 )
 
 
@@ -121,8 +170,8 @@ class Package(unittest.TestCase):
 
     def test_is_there(self):
         names = {path.name for path in PACKAGE.glob("*.py")}
-        self.assertTrue({"__init__.py", "errors.py", "plain.py", "ways.py", "leasts.py", "late.py", "units.py",
-                         "rounds.py", "woven.py"} <= names, names)
+        listed = "errors plain ways leasts late units rounds woven heaps flows readings needs account texts board desk"
+        self.assertTrue({"__init__.py", *[f"{name}.py" for name in listed.split()]} <= names, names)
 
     def test_python_has_no_warning(self):
         for path in PACKAGE.glob("*.py"):
